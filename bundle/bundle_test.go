@@ -14,7 +14,7 @@ import (
 	"scrapbook/url"
 )
 
-// A second reading of the chapter, by going down the tree and by patterns: what the package answers is held against it.
+// A second reading of the chapter, by going down the tree and by patterns: what the package answers is held against it. What the chapters ahead promise (packages part, url, link) is taken from these packages; their own tests hold them to it.
 
 var (
 	ahead    = regexp.MustCompile(`\A[^#]*`)
@@ -468,8 +468,8 @@ func TestAsManyPartsAsThereMayBe(t *testing.T) {
 	wantError(t, "a part too many, in another", many("x://h/0/", append(l[:10:10], many("", page("", "")))...), api.ErrMany, api.ErrMany)
 }
 
-// Each choice of Locations and IDs for a bundle of two levels, with links to all that they may say.
-func TestAllSmallBundles(t *testing.T) {
+// One bundle of three levels, with each choice of these Locations and IDs, and links to all that they may say.
+func TestAllChoicesOfPlaces(t *testing.T) {
 	locations := []string{"", ":", "a", "b/", "#f", "x://h/a", "x://h/b/a#f", "cid:a", "../a"}
 	ids := []string{"", "a"}
 	texts := []string{"", "a", "#f", "b/a", "/a", "x://h/a", "x://h/b/a", "cid:a", "cid:", ":", "thismessage:/a#g"}
